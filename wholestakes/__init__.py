@@ -1,0 +1,1 @@
+"""Wholestakes: whole coins laid on the next letter."""

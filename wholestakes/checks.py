@@ -1,0 +1,23 @@
+"""Arguments that are looked at by many functions: each raises its error unless the argument is right."""
+
+from wholestakes.errors import NoCoins, NoNumber, NoPlace
+from wholestakes.kinds import is_coins, is_within
+
+
+def is_place(track, thing):
+    return is_within(thing, 0, track.places - 1)
+
+
+def check_place(track, place):
+    if not is_place(track, place):
+        raise NoPlace()
+
+
+def check_coins(coins):
+    if not is_coins(coins):
+        raise NoCoins()
+
+
+def check_number(number, most):
+    if not is_within(number, 0, most):
+        raise NoNumber()
