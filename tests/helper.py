@@ -1,5 +1,7 @@
 """What several tests need: tracks, odd things, and slow answers by the words of the document."""
 
+import functools
+import itertools
 import random
 from fractions import Fraction
 
@@ -28,6 +30,10 @@ def drawn(seed, most_places=4, abc="abc"):
 
 DRAWN = tuple(drawn(seed) for seed in range(40))
 TRACKS = (ONE, T, U, V, LINE) + DRAWN
+# Of most of these the least coins are from 3 to 7, and other ones for a limit or by one letter.
+GROWING = tuple(drawn(seed, 3) for seed in (
+    5, 75, 77, 84, 91, 129, 142, 223, 280, 282, 346, 413, 416, 529, 576, 586, 609, 662, 767, 779, 891, 910, 923,
+))
 
 
 def large():
@@ -117,6 +123,126 @@ def lots(track):
 
 def full_lots(track):
     return [lot for lot in lots(track) if all(comes_to(track, place, lot) >= 1 for place in lot)]
+
+
+@functools.lru_cache(None)
+def laid(count, coins):
+    """All tuples of so many coins that come to at most coins, those that come to less first."""
+    found = [told for told in itertools.product(range(coins + 1), repeat=count) if sum(told) <= coins]
+    return sorted(found, key=lambda told: (sum(told), told))
+
+
+def stakes(track, place, coins):
+    """All stakes at a place by which at most so many coins are laid."""
+    return laid(len(steps(track, place)), coins)
+
+
+def behind(track, place, coins, stake):
+    """The pairs (place, coins) behind the letters, ascending."""
+    kept = coins - sum(stake)
+    return [(to, kept + pay * told) for told, (_, pay, to) in zip(stake, steps(track, place))]
+
+
+def anything(stake):
+    return True
+
+
+def by_one(stake):
+    return sum(told > 0 for told in stake) <= 1
+
+
+def within(limit):
+    return lambda stake: sum(stake) <= limit
+
+
+def meets(track, place, coins, stake, goals):
+    return all(goals[to] is None or has >= goals[to] for to, has in behind(track, place, coins, stake))
+
+
+def enough_for(track, place, coins, goals, fits=anything):
+    """Whether some stake with so many coins meets goals."""
+    return any(meets(track, place, coins, stake, goals) for stake in stakes(track, place, coins) if fits(stake))
+
+
+def slow_least(track, place, goals, fits=anything):
+    """The least coins with which some stake meets goals: all stakes of ever more coins."""
+    return next(coins for coins in itertools.count() if enough_for(track, place, coins, goals, fits))
+
+
+def sure_levels(track, goal, fits=anything):
+    """For each number of letters the set of the pairs (place, coins), below a goal, from which the goal is sure within
+    so many; the last one is that of all from which it is sure."""
+    levels = [set()]
+    while len(levels) < 2 or levels[-1] != levels[-2]:
+        levels.append({
+            (place, coins)
+            for place in range(track.places)
+            for coins in range(goal)
+            if (place, coins) in levels[-1] or any(
+                all(has >= goal or (to, has) in levels[-1] for to, has in behind(track, place, coins, stake))
+                for stake in stakes(track, place, coins)
+                if fits(stake)
+            )
+        })
+    return levels[:-1]
+
+
+def least_of(level, place, goal):
+    """The least coins at a place in such a set, the goal if there are none; more coins are never less good."""
+    found = [coins for coins in range(goal) if (place, coins) in level]
+    assert found == list(range(goal - len(found), goal))
+    return goal - len(found)
+
+
+def needs(pays, goals):
+    """The least coins for goals behind letters with such pays: whatever is kept."""
+    found = []
+    for kept in range(max(goals) + 1):
+        lacks = [(pay, goal - kept) for pay, goal in zip(pays, goals) if goal > kept]
+        if all(pay > 0 for pay, _ in lacks):
+            found.append(kept + sum(-(-lack // pay) for pay, lack in lacks))
+    return min(found)
+
+
+def needs_at(track, place, goals):
+    """The same at a place, for goals with numbers or None."""
+    found = steps(track, place)
+    return needs([pay for _, pay, _ in found], [goals[to] or 0 for _, _, to in found])
+
+
+def slow_table(track, thing, fits=anything):
+    """Whether a tuple of right triples and None is a table by the words of the document."""
+    for place, entry in enumerate(thing):
+        if entry is not None:
+            coins, turns, stake = entry
+            if len(stake) != len(steps(track, place)) or sum(stake) > coins or not fits(stake):
+                return False
+            for to, has in behind(track, place, coins, stake):
+                if thing[to] is None or (-has, thing[to][1]) >= (-thing[to][0], turns):
+                    return False
+    return True
+
+
+def slow_caps(track, caps, fits=anything):
+    """Whether a tuple of coins and None is caps by the words of the document: all stakes are tried."""
+    for place, cap in enumerate(caps):
+        if cap is not None:
+            for stake in stakes(track, place, cap):
+                held = [caps[to] is not None and has <= caps[to] for to, has in behind(track, place, cap, stake)]
+                if fits(stake) and not any(held):
+                    return False
+    return any(cap is not None for cap in caps)
+
+
+def chain(count, pays):
+    """Places one above the other, hard to grow at: letters lead up or stay, one that pays nothing leads down."""
+    arrows = []
+    for place in range(count):
+        for at, pay in enumerate(pays):
+            arrows.append((place, "abcdefgh"[at], pay, count - 1 if place == 0 else min(place + at % 2, count - 1)))
+        if place > 0:
+            arrows.append((place, "z", 0, place - 1))
+    return Track(count, tuple(arrows))
 
 
 def error_of(function, *told):

@@ -4,8 +4,11 @@ import importlib
 import inspect
 import unittest
 
-from tests.helper import DRAWN, LINE, T, U, V, large
-from wholestakes import conditions, knowing, likeness, lots, making, rows, stakes, tracks
+from tests.helper import DRAWN, LINE, T, U, V, error_of, large
+from wholestakes import (
+    byone, conditions, goals, growing, holding, knowing, likeness, limits, lots, making, plain, plans, rows, slopes, stakes,
+    times, tracks,
+)
 from wholestakes.tracks import Track
 
 INTERFACE = {
@@ -23,6 +26,20 @@ INTERFACE = {
             "row_to_full(track, place)",
     "stakes": "is_stake(track, place, coins, thing) outcome(track, place, coins, stake, letter) "
               "outcomes(track, place, coins, stake) answer(track, lot, place, coins, stake)",
+    "goals": "least_for(track, place, goals) stake_for(track, place, coins, goals) parts_for(track, place, goals)",
+    "times": "least_after(track, goals, length) parts_after(track, goals, length) least_within(track, goal, length) "
+             "sure_after(track, place, coins, length) factor(track, place, length) soonest(track, place, coins, goal) "
+             "peak(track, place, coins)",
+    "plans": "is_plan(track, place, coins, goal, thing) plan(track, place, coins, goal) "
+             "plan_letters(track, place, coins, goal, plan)",
+    "growing": "least_coins(track) table(track) fewest_turns(track) is_table(track, thing)",
+    "holding": "is_caps(track, thing) caps(track, place, coins)",
+    "plain": "plain_stake(track, place, lost) plain_coins(track, place)",
+    "limits": "least_coins_within(track, limit) table_within(track, limit) is_table_within(track, limit, thing) "
+              "least_limit(track, place) limit_steps(track, place)",
+    "slopes": "is_slope(track, limit, thing) slope(track, limit, place)",
+    "byone": "is_full_by_one(track, thing) is_table_by_one(track, thing) is_caps_by_one(track, thing) "
+             "hopeful_by_one(track) least_by_one(track) table_by_one(track) caps_by_one(track, place, coins)",
 }
 
 
@@ -55,6 +72,34 @@ def calls(track):
         start = full[0]
         count = len([step for step in track.arrows if step[0] == start])
         told.append((stakes.answer, track, full, start, 4, (1,) * count if count < 5 else (0,) * count))
+    return told + later_calls(track, place)
+
+
+def later_calls(track, place):
+    wanted = tuple((4, None, 7)[at % 3] for at in range(track.places))
+    none = (None,) * track.places
+    found = plans.plan(track, place, 3, 6)
+    told = [
+        (goals.least_for, track, place, wanted), (goals.stake_for, track, place, 9, wanted),
+        (goals.parts_for, track, place, wanted), (times.least_after, track, wanted, 5), (times.parts_after, track, wanted, 5),
+        (times.least_within, track, 7, 5), (times.sure_after, track, place, 40, 5), (times.factor, track, place, 5),
+        (times.soonest, track, place, 3, 5), (plans.is_plan, track, place, 3, 6, found or {}),
+        (plans.plan, track, place, 3, 6), (growing.least_coins, track), (growing.table, track),
+        (growing.fewest_turns, track), (growing.is_table, track, none), (holding.is_caps, track, wanted),
+        (holding.caps, track, place, 1), (limits.least_coins_within, track, 2), (limits.table_within, track, 2),
+        (limits.is_table_within, track, 2, none), (slopes.is_slope, track, 2, none), (slopes.slope, track, 2, place),
+        (byone.is_full_by_one, track, (place,)), (byone.is_table_by_one, track, none),
+        (byone.is_caps_by_one, track, wanted), (byone.hopeful_by_one, track), (byone.least_by_one, track),
+        (byone.table_by_one, track), (byone.caps_by_one, track, place, 1), (limits.limit_steps, track, place),
+    ]
+    if found is not None:
+        told.append((plans.plan_letters, track, place, 3, 6, found))
+    if error_of(times.peak, track, place, 1) is None:
+        told.append((times.peak, track, place, 1))
+    if error_of(limits.least_limit, track, place) is None:
+        told.append((limits.least_limit, track, place))
+    if place in lots.hopeful(track):
+        told += [(plain.plain_stake, track, place, 3), (plain.plain_coins, track, place)]
     return told
 
 
@@ -85,7 +130,7 @@ class GeneralTest(unittest.TestCase):
                 second = function(*told)
                 self.assertEqual(first, second)
                 self.assertEqual(told, kept)
-                if isinstance(first, (list, Track)):
+                if isinstance(first, (list, dict, Track)):
                     self.assertIsNot(first, second, function.__name__)
                 self.assertEqual((track.places, track.arrows), before, function.__name__)
 

@@ -1,16 +1,10 @@
 import itertools
 import unittest
 
-from tests.helper import LINE, ONE, T, TRACKS, U, V, Errors, full_lots, large, no_places, odd_things, steps
+from tests.helper import LINE, ONE, T, TRACKS, U, V, Errors, full_lots, large, no_places, odd_things, stakes, steps
 from wholestakes.errors import NoCoins, NoLetter, NoLot, NoPlace, NoStake
 from wholestakes.lots import greatest_full
 from wholestakes.stakes import answer, is_stake, outcome, outcomes
-
-
-def stakes(track, place, coins):
-    """All stakes at a place by which at most so many coins are laid."""
-    count = len(steps(track, place))
-    return [found for found in itertools.product(range(coins + 1), repeat=count) if sum(found) <= coins]
 
 
 class StakesTest(unittest.TestCase, Errors):

@@ -1,7 +1,9 @@
 """Arguments that are looked at by many functions: each raises its error unless the argument is right."""
 
-from wholestakes.errors import NoCoins, NoNumber, NoPlace
+from wholestakes.errors import NoCoins, NoLimit, NoNumber, NoPlace
 from wholestakes.kinds import is_coins, is_within
+
+MOST_LIMIT = 100
 
 
 def is_place(track, thing):
@@ -21,3 +23,8 @@ def check_coins(coins):
 def check_number(number, most):
     if not is_within(number, 0, most):
         raise NoNumber()
+
+
+def check_limit(limit):
+    if not is_within(limit, 0, MOST_LIMIT):
+        raise NoLimit()

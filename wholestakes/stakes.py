@@ -7,28 +7,34 @@ from wholestakes.lots import is_full
 from wholestakes.tracks import ways_of
 
 
-def is_stake(track, place, coins, thing):
-    """Whether a thing is a stake at a place by which at most so many coins are laid."""
-    check_place(track, place)
-    check_coins(coins)
-    if not isinstance(thing, tuple) or len(thing) != len(ways_of(track)[place]):
+def is_laid(moves, coins, thing):
+    """Whether a thing is a stake for such moves, by which at most so many coins are laid."""
+    if not isinstance(thing, tuple) or len(thing) != len(moves):
         return False
     return all([is_coins(laid) for laid in thing]) and sum(thing) <= coins
 
 
-def check_stake(track, place, coins, stake):
-    if not is_stake(track, place, coins, stake):
-        raise NoStake()
+def paid_out(moves, coins, stake):
+    """The list of the triples (letter, coins, place) for all letters of such moves."""
+    kept = coins - sum(stake)
+    found = []
+    for at, (letter, (pay, to)) in enumerate(moves.items()):
+        found.append((letter, kept + pay * stake[at], to))
+    return found
+
+
+def is_stake(track, place, coins, thing):
+    """Whether a thing is a stake at a place by which at most so many coins are laid."""
+    check_place(track, place)
+    check_coins(coins)
+    return is_laid(ways_of(track)[place], coins, thing)
 
 
 def outcomes(track, place, coins, stake):
     """The list of the triples (letter, coins, place) for all letters that can come."""
-    check_stake(track, place, coins, stake)
-    kept = coins - sum(stake)
-    found = []
-    for at, (letter, (pay, to)) in enumerate(ways_of(track)[place].items()):
-        found.append((letter, kept + pay * stake[at], to))
-    return found
+    if not is_stake(track, place, coins, stake):
+        raise NoStake()
+    return paid_out(ways_of(track)[place], coins, stake)
 
 
 def outcome(track, place, coins, stake, letter):
