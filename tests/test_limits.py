@@ -23,6 +23,12 @@ ABOVE = Track(3, (
     (0, "a", 2, 2), (0, "b", 3, 1), (1, "a", 2, 1), (1, "b", 3, 2), (1, "c", 7, 2), (2, "a", 2, 2), (2, "b", 4, 2),
     (2, "c", 0, 1),
 ))
+# Here a limit of 100 is better than one of 99, and one of 101 would be better still.
+AT_100 = Track(5, (
+    (0, "a", 9, 4), (0, "b", 9, 3), (1, "a", 2, 4), (1, "b", 4, 1), (1, "c", 1, 4), (2, "a", 3, 2), (2, "b", 2, 3),
+    (2, "c", 2, 4), (3, "a", 3, 4), (3, "b", 6, 1), (3, "c", 9, 0), (4, "a", 2, 1), (4, "b", 9, 2), (4, "c", 4, 1),
+    (4, "d", 6, 1),
+))
 NO_LIMITS = odd_things() + [-1, 101, 10 ** 39, "1", True, (1,)]
 
 
@@ -170,6 +176,19 @@ class LimitTest(unittest.TestCase, Errors):
         self.assertEqual(limit_steps(STEPPED[0], 0), [(8, 20), (9, 17), (10, 15), (12, 13)])
         self.assertEqual(limit_steps(drawn(662, 3), 0), [(3, 3), (4, 2)])
         self.assertEqual(limit_steps(U, 0), [])
+
+    def test_a_step_at_100_and_none_behind_it(self):
+        every = [least_coins_within(AT_100, limit) for limit in range(101)]
+        self.assertEqual((every[99], every[100]), ((40, 222, 199, 128, 221), (38, 214, 191, 120, 213)))
+        for place in range(5):
+            found = limit_steps(AT_100, place)
+            self.assertEqual(found[-1], (100, every[100][place]))
+            self.assertEqual(found, [
+                (limit, every[limit][place])
+                for limit in range(1, 101)
+                if every[limit][place] != every[limit - 1][place]
+            ])
+        self.assertLess(max(least_coins(AT_100)), 214)
 
     def test_lists_are_new(self):
         found = limit_steps(T, 0)

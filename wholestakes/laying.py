@@ -54,7 +54,7 @@ def keep_from(wants, low):
     if len(above) < 2:
         return coins_with(above, low), low
     bounds = [low] + sorted({goal for _, goal in above})
-    best = min([(coins_with(above, kept), kept) for kept in bounds])
+    best = (coins_with(above, low), low)
     for at in range(len(bounds) - 1):
         rising = [(pay, goal) for pay, goal in above if goal > bounds[at]]
         best = best_between(rising, bounds[at], bounds[at + 1], best)

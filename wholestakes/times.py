@@ -70,7 +70,7 @@ def greatest(most, holds):
     """
     low = most
     step = 1
-    while low > 0 and not holds(low):
+    while not holds(low):
         most = low - 1
         low = max(0, low - step)
         step *= 2
@@ -104,7 +104,7 @@ def peak(track, place, coins):
     check_place(track, place)
     check_coins(coins)
     ways, at = surroundings(track, place)
-    if coins > MOST_GOAL or in_the_end(ways, MOST_GOAL + 1)[at] <= coins:
+    if in_the_end(ways, MOST_GOAL + 1)[at] <= coins:
         if grows(track, place, coins):
             return None
         raise TooMany(MOST_GOAL)
