@@ -137,9 +137,9 @@ def stakes(track, place, coins):
     return laid(len(steps(track, place)), coins)
 
 
-def behind(track, place, coins, stake):
-    """The pairs (place, coins) behind the letters, ascending."""
-    kept = coins - sum(stake)
+def behind(track, place, coins, stake, fee=0):
+    """The pairs (place, coins) behind the letters, ascending; below 0 where the fee cannot be given."""
+    kept = coins - sum(stake) - fee
     return [(to, kept + pay * told) for told, (_, pay, to) in zip(stake, steps(track, place))]
 
 
@@ -169,7 +169,7 @@ def slow_least(track, place, goals, fits=anything):
     return next(coins for coins in itertools.count() if enough_for(track, place, coins, goals, fits))
 
 
-def sure_levels(track, goal, fits=anything):
+def sure_levels(track, goal, fits=anything, fee=0):
     """For each number of letters the set of the pairs (place, coins), below a goal, from which the goal is sure within
     so many; the last one is that of all from which it is sure."""
     levels = [set()]
@@ -179,7 +179,7 @@ def sure_levels(track, goal, fits=anything):
             for place in range(track.places)
             for coins in range(goal)
             if (place, coins) in levels[-1] or any(
-                all(has >= goal or (to, has) in levels[-1] for to, has in behind(track, place, coins, stake))
+                all(has >= goal or (to, has) in levels[-1] for to, has in behind(track, place, coins, stake, fee))
                 for stake in stakes(track, place, coins)
                 if fits(stake)
             )
@@ -210,25 +210,26 @@ def needs_at(track, place, goals):
     return needs([pay for _, pay, _ in found], [goals[to] or 0 for _, _, to in found])
 
 
-def slow_table(track, thing, fits=anything):
+def slow_table(track, thing, fits=anything, fee=0):
     """Whether a tuple of right triples and None is a table by the words of the document."""
     for place, entry in enumerate(thing):
         if entry is not None:
             coins, turns, stake = entry
             if len(stake) != len(steps(track, place)) or sum(stake) > coins or not fits(stake):
                 return False
-            for to, has in behind(track, place, coins, stake):
-                if thing[to] is None or (-has, thing[to][1]) >= (-thing[to][0], turns):
+            for to, has in behind(track, place, coins, stake, fee):
+                if has < 0 or thing[to] is None or (-has, thing[to][1]) >= (-thing[to][0], turns):
                     return False
     return True
 
 
-def slow_caps(track, caps, fits=anything):
+def slow_caps(track, caps, fits=anything, fee=0):
     """Whether a tuple of coins and None is caps by the words of the document: all stakes are tried."""
     for place, cap in enumerate(caps):
         if cap is not None:
             for stake in stakes(track, place, cap):
-                held = [caps[to] is not None and has <= caps[to] for to, has in behind(track, place, cap, stake)]
+                ends = behind(track, place, cap, stake, fee)
+                held = [caps[to] is not None and has <= caps[to] for to, has in ends]
                 if fits(stake) and not any(held):
                     return False
     return any(cap is not None for cap in caps)

@@ -4,11 +4,15 @@ import importlib
 import inspect
 import unittest
 
-from tests.helper import DRAWN, LINE, T, U, V, error_of, large
+from tests.helper import DRAWN, LINE, T, U, V, error_of, large, odd_things
 from wholestakes import (
-    byone, conditions, goals, growing, holding, knowing, likeness, limits, lots, making, plain, plans, rows, slopes, stakes,
-    times, tracks,
+    byone, changes, conditions, fair, fees, goals, growing, holding, knowing, likeness, limits, lots, making, plain, plans,
+    reading, rows, slopes, stakes, strangers, texts, times, tracks,
 )
+from wholestakes.desk import Desk
+from wholestakes.errors import StakeError
+from wholestakes.houses import House
+from wholestakes.purses import Purse
 from wholestakes.tracks import Track
 
 INTERFACE = {
@@ -40,7 +44,23 @@ INTERFACE = {
     "slopes": "is_slope(track, limit, thing) slope(track, limit, place)",
     "byone": "is_full_by_one(track, thing) is_table_by_one(track, thing) is_caps_by_one(track, thing) "
              "hopeful_by_one(track) least_by_one(track) table_by_one(track) caps_by_one(track, place, coins)",
+    "fees": "least_with_fee(track, fee) table_with_fee(track, fee) is_table_with_fee(track, fee, thing) "
+            "is_caps_with_fee(track, fee, thing) caps_with_fee(track, fee, place, coins) greatest_fee(track, place, coins)",
+    "strangers": "played(track, place, coins, bettor, text) beaten(track, place, goal, house) "
+                 "tabled(track, place, table, coins, text) worst(track, place, coins, bettor, length) "
+                 "held(track, place, coins, bettor, length)",
+    "fair": "is_fair(track, lot, thing) fair(track, lot) mean_after(track, lot, chances, place, coins, bettor, length)",
+    "changes": "shut(track, place) opened(track, place) raised(track, place, most) lowered(track, place, most)",
+    "texts": "track_text(track) table_text(table) goals_text(goals)",
+    "reading": "read_track(text) read_table(text) read_goals(text)",
 }
+CLASSES = (
+    (Track, "tracks", "places arrows", "__eq__()"),
+    (Purse, "purses", "track place coins", "coins() place() text() lay(stake) come(letter) laid() grows() advice() back() "
+                                           "depth() copy() trying(action)"),
+    (House, "houses", "track place coins", "answer(stake) caps() coins() place() text() back() depth() copy() trying(action)"),
+    (Desk, "desk", "", "tell(line) undoable()"),
+)
 
 
 def calls(track):
@@ -100,6 +120,43 @@ def later_calls(track, place):
         told.append((limits.least_limit, track, place))
     if place in lots.hopeful(track):
         told += [(plain.plain_stake, track, place, 3), (plain.plain_coins, track, place)]
+    return told + last_calls(track, place)
+
+
+def nothing(track, place):
+    """A bettor that lays nothing."""
+    return lambda text, coins: (0,) * len(tracks.letters(track, rows.led(track, place, text)))
+
+
+def last_calls(track, place):
+    none = (None,) * track.places
+    caps = (4,) * track.places
+    bettor = nothing(track, place)
+    row = rows.row_at(track, place, 3, 0)
+    entries = growing.table(track)
+    full = lots.greatest_full(track)
+    told = [
+        (fees.least_with_fee, track, 2), (fees.table_with_fee, track, 2), (fees.is_table_with_fee, track, 2, none),
+        (fees.is_caps_with_fee, track, 2, caps), (fees.caps_with_fee, track, 2, place, 0),
+        (fees.greatest_fee, track, place, 9), (strangers.played, track, place, 5, bettor, row),
+        (strangers.worst, track, place, 5, bettor, 3), (strangers.held, track, place, 0, bettor, 3),
+        (fair.is_fair, track, (place,), none), (fair.fair, track, (place,)), (texts.track_text, track),
+        (texts.table_text, entries), (texts.goals_text, caps + none), (reading.read_table, texts.table_text(entries)),
+        (reading.read_goals, texts.goals_text(caps + none)),
+    ]
+    if place in lots.hopeful(track):
+        least = growing.least_coins(track)[place]
+        told.append((strangers.tabled, track, place, entries, least + 1, row))
+        told.append((strangers.beaten, track, place, 20, lambda text, coins, stake: tracks.letters(
+            track, rows.led(track, place, text))[0]))
+    if full:
+        idle = nothing(track, full[0])
+        told += [(fair.fair, track, full), (fair.mean_after, track, full, fair.fair(track, full), full[0], 5, idle, 3)]
+    if len(track.arrows) <= 12:
+        told += [(changes.shut, track, place), (changes.opened, track, place)]
+        told += [(changes.raised, track, place, 2), (changes.lowered, track, place, 2)]
+    if track.places <= 12:
+        told.append((reading.read_track, texts.track_text(track)))
     return told
 
 
@@ -114,10 +171,24 @@ class InterfaceTest(unittest.TestCase):
                 self.assertEqual(list(inspect.signature(found).parameters), rest.rstrip(")").split(", "), name)
                 self.assertIn("\ndef " + name + "(", inspect.getsource(module))
 
-    def test_the_class(self):
-        self.assertEqual(Track.__module__, "wholestakes.tracks")
-        self.assertEqual(list(inspect.signature(Track).parameters), ["places", "arrows"])
-        self.assertIn("__eq__", vars(Track))
+    def test_the_classes(self):
+        for kind, file, told, methods in CLASSES:
+            self.assertEqual(kind.__module__, "wholestakes." + file)
+            self.assertEqual(list(inspect.signature(kind).parameters), told.split())
+            self.assertEqual(kind.__bases__, (object,))
+            for line in methods.split():
+                name, _, rest = line.partition("(")
+                self.assertIn(name, vars(kind))
+                if name != "__eq__":
+                    found = list(inspect.signature(vars(kind)[name]).parameters)
+                    self.assertEqual(found, ["self"] + rest.rstrip(")").split())
+
+    def test_objects_of_the_classes_are_equal_to_nothing_of_another_kind(self):
+        things = [T, Purse(T, 0, 1), House(T, 0, 1), Desk()]
+        for at, thing in enumerate(things):
+            for other in odd_things() + things[:at] + things[at + 1:]:
+                self.assertFalse(thing == other)
+                self.assertTrue(thing != other)
 
 
 class GeneralTest(unittest.TestCase):
@@ -133,6 +204,39 @@ class GeneralTest(unittest.TestCase):
                 if isinstance(first, (list, dict, Track)):
                     self.assertIsNot(first, second, function.__name__)
                 self.assertEqual((track.places, track.arrows), before, function.__name__)
+
+    def test_no_error_that_is_not_named_for_things_of_any_kind(self):
+        # A right object in the place of another argument can be right there.
+        told_of = {Track: "a track", type(lambda: 0): "a bettor or a house"}
+        for track in (T, U, LINE, large()):
+            for function, *told in calls(track):
+                if function.__module__ != "wholestakes.texts":
+                    for at, thing in enumerate(told):
+                        if type(thing) not in told_of:
+                            for odd in odd_things():
+                                self.ends(function, *told[:at], odd, *told[at + 1:])
+
+    def ends(self, function, *told):
+        """The call returns, a flag for the functions that judge, or raises an error of the package."""
+        try:
+            found = function(*told)
+        except StakeError as error:
+            self.assertIs(type(error).__base__, StakeError)
+        else:
+            if function.__name__.startswith("is_"):
+                self.assertIs(type(found), bool)
+
+    def test_methods_for_things_of_any_kind(self):
+        for odd in odd_things():
+            for track, place in ((T, 0), (U, 1), (large(), 3)):
+                self.ends(Purse, track, odd, 1)
+                self.ends(Purse, track, place, odd)
+                self.ends(House, track, odd, 1)
+                self.ends(House, track, place, odd)
+                self.ends(Purse(track, place, 5).lay, odd)
+                self.ends(Purse(track, place, 5).come, odd)
+                self.ends(House(track, place, 0).answer, odd)
+            self.ends(Desk().tell, odd)
 
     def test_flags_are_flags(self):
         for function, *told in calls(V) + calls(U):

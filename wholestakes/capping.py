@@ -1,19 +1,27 @@
 """Caps: judged and found for a way to keep."""
 
-from wholestakes.laying import wanted
 from wholestakes.paths import steps_to
+from wholestakes.stakes import paid_out
 from wholestakes.tracks import MOST_PAY
 
 
 def holds_down(ways, caps, keep):
     """Whether at no place with a cap so many coins are enough to have more than the next cap behind each letter."""
-    goals = [None if cap is None else cap + 1 for cap in caps]
     for place, moves in enumerate(ways):
         if caps[place] is not None:
-            enough, _ = keep(wanted(moves, goals))
+            # Letters to places without a cap are left out: with a fee, nothing being wanted is less than no coins.
+            enough, _ = keep([(pay, caps[to] + 1) for pay, to in moves.values() if caps[to] is not None])
             if enough <= caps[place]:
                 return False
     return True
+
+
+def holding_letter(moves, caps, coins, stake):
+    """The first letter behind which a bettor with such coins and stake has at most the cap, None if there is none."""
+    for letter, behind, to in paid_out(moves, coins, stake):
+        if caps[to] is not None and behind <= caps[to]:
+            return letter
+    return None
 
 
 def caps_below(least):

@@ -3,9 +3,9 @@
 from wholestakes.kinds import is_coins
 from wholestakes.laying import keep_any
 from wholestakes.lots import hopeful
-from wholestakes.reaching import in_the_end, surroundings
+from wholestakes.reaching import surroundings
 from wholestakes.stakes import is_laid, paid_out
-from wholestakes.tables import growing_coins, table_for, turns_for
+from wholestakes.tables import are_enough, growing_coins, table_for, turns_for
 from wholestakes.tracks import ways_of
 
 
@@ -29,26 +29,23 @@ def grows(track, place, coins):
     if place not in hopeful(track):
         return False
     ways, at = surroundings(track, place)
-    goal = 2
-    # The least coins of other places may be far more: they need not be found to tell that these are too few.
-    while True:
-        found = in_the_end(ways, goal)
-        if found[at] > coins:
-            return False
-        if max(found) < goal:
-            return True
-        goal *= 2
+    return are_enough(ways, at, coins, keep_any)
 
 
 def is_table(track, thing):
     """Whether a thing is a table."""
+    return is_table_less(track, thing, 0)
+
+
+def is_table_less(track, thing, fee):
+    """Whether a thing is a table if so many coins are given away behind each letter."""
     if not isinstance(thing, tuple) or len(thing) != track.places:
         return False
     entries = [(moves, entry) for moves, entry in zip(ways_of(track), thing) if entry is not None]
     # Entries can be looked into only once each of them is known to be one.
     if not all([is_entry(moves, entry) for moves, entry in entries]):
         return False
-    return all([leads_on(thing, moves, entry) for moves, entry in entries])
+    return all([leads_on(thing, moves, entry, fee) for moves, entry in entries])
 
 
 def is_entry(moves, thing):
@@ -59,13 +56,14 @@ def is_entry(moves, thing):
     return is_coins(coins) and is_coins(turns) and is_laid(moves, coins, stake)
 
 
-def leads_on(entries, moves, entry):
-    """Whether each letter leads to a triple with fewer coins than there are, or just as many and fewer turns."""
+def leads_on(entries, moves, entry, fee):
+    """Whether each letter leads to a triple with fewer coins than are left, or just as many and fewer turns."""
     coins, turns, stake = entry
     for _, behind, to in paid_out(moves, coins, stake):
         if entries[to] is None:
             return False
-        wanted, left, _ = entries[to]
-        if behind < wanted or (behind == wanted and left >= turns):
+        wanted, later, _ = entries[to]
+        left = behind - fee
+        if left < wanted or (left == wanted and later >= turns):
             return False
     return True

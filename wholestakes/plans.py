@@ -23,12 +23,17 @@ def plan(track, place, coins, goal):
     while waiting:
         here, has = waiting.pop()
         if has < goal and (near[here], has) not in stakes:
-            wants = wanted(ways[here], levels[letters_left(levels, here, has) - 1])
-            _, kept = keep_any(wants)
-            stake = tuple(laid_on(wants, kept))
+            stake = stake_toward(ways, levels, here, has)
             stakes[(near[here], has)] = stake
             waiting.extend([(to, behind) for _, behind, to in paid_out(ways[here], has, stake)])
     return stakes
+
+
+def stake_toward(ways, levels, place, coins):
+    """A stake by which the goal of some levels is come to within the fewest letters; there must be fewer coins."""
+    wants = wanted(ways[place], levels[letters_left(levels, place, coins) - 1])
+    _, kept = keep_any(wants)
+    return tuple(laid_on(wants, kept))
 
 
 def is_plan(track, place, coins, goal, thing):

@@ -19,6 +19,19 @@ def growing_coins(ways, places, keep):
         goal *= 2
 
 
+def are_enough(ways, place, coins, keep):
+    """Whether the bettor grows from a place with so many coins; it has to grow from each place with some."""
+    goal = 2
+    # The least coins of other places may be far more: they need not be found to tell that these are too few.
+    while True:
+        found = settled(ways, [goal] * len(ways), keep)
+        if found[place] > coins:
+            return False
+        if max(found) < goal:
+            return True
+        goal *= 2
+
+
 def turns_for(ways, coins, keep):
     """For each place the least number of letters to have more than its coins where the bettor is then."""
     turns = [None] * len(ways)
