@@ -130,6 +130,8 @@ class StepsTest(unittest.TestCase, Errors):
         # One more on the one letter that is not nine is just enough; nothing else can be raised.
         one = Track(1, tuple((0, letter, 9, 0) for letter in "abcdefgh") + ((0, "i", 8, 0),))
         self.assertEqual([raised(one, 0, most) for most in range(5)], [None] * 5)
+        eights = Track(1, tuple((0, letter, 8, 0) for letter in "abcdefgh"))
+        self.assertEqual([raised(eights, 0, most) for most in range(5)], [None, 1, 1, 1, 1])
         two = Track(1, tuple((0, letter, 9, 0) for letter in "abcd") + ((0, "e", 2, 0), (0, "f", 1, 0)))
         self.assertEqual([raised(two, 0, most) for most in range(5)], [slow_steps(two, 0, most, 1, True) for most in range(5)])
 

@@ -3,7 +3,6 @@
 from wholestakes.checks import check_coins, check_place
 from wholestakes.errors import NoLetter, NoStake, NothingDone, TooFew
 from wholestakes.growing import grows, table
-from wholestakes.kinds import is_letter
 from wholestakes.making import part
 from wholestakes.plain import check_hopeful
 from wholestakes.stakes import is_laid, paid_out
@@ -46,8 +45,6 @@ class Purse:
     def come(self, letter):
         """Lets a letter come, and returns the coins."""
         coins, place, text, stake = self._states[-1]
-        if not is_letter(letter):
-            raise NoLetter()
         for found, behind, to in paid_out(ways_of(self._track)[place], coins, stake):
             if found == letter:
                 self._states.append((behind, to, text + letter, nothing_laid(self._track, to)))
