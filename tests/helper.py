@@ -246,6 +246,46 @@ def chain(count, pays):
     return Track(count, tuple(arrows))
 
 
+def nothing(track, place):
+    """A bettor that lays nothing."""
+    return lambda text, coins: (0,) * len(steps(track, walk(track, place, text)[1]))
+
+
+def first_letter(track, place):
+    """A bettor that lays all on the first letter."""
+    return lambda text, coins: (coins,) + (0,) * (len(steps(track, walk(track, place, text)[1])) - 1)
+
+
+def last_letter(track, place):
+    return lambda text, coins: (0,) * (len(steps(track, walk(track, place, text)[1])) - 1) + (coins,)
+
+
+def by_letters(track, place):
+    """A bettor that lays some coins by the letters so far."""
+    def bettor(text, coins):
+        draw = random.Random(text + str(coins))
+        count = len(steps(track, walk(track, place, text)[1]))
+        stake = [0] * count
+        left = draw.randint(0, min(coins, 60))
+        for _ in range(left):
+            stake[draw.randrange(count)] += 1
+        return tuple(stake)
+    return bettor
+
+
+BETTORS = (nothing, first_letter, last_letter, by_letters)
+
+
+def wrong_stakes(coins, count):
+    """What is no stake for so many letters with so many coins."""
+    right = (0,) * count
+    return odd_things() + [
+        list(right), right + (0,), right[1:] if count > 1 else (), (coins + 1,) + right[1:], (-1,) + right[1:],
+        (False,) + right[1:], ("0",) + right[1:], (None,) + right[1:], {at: 0 for at in range(count)}, 0,
+        ((0,),) + right[1:], (nested(36, 0),) + right[1:], (coins,) * count if count > 1 and coins else None,
+    ]
+
+
 def error_of(function, *told):
     """The error of the package that a call raises, None if it raises none."""
     try:

@@ -3,8 +3,7 @@
 import unittest
 from fractions import Fraction
 
-from tests.helper import DRAWN, GROWING, TRACKS, drawn, full_lots, steps, stakes
-from tests.test_strangers import BETTORS
+from tests.helper import BETTORS, DRAWN, GROWING, TRACKS, drawn, full_lots, stakes, steps
 from wholestakes.byone import caps_by_one, hopeful_by_one, is_caps_by_one, least_by_one
 from wholestakes.fair import fair, is_fair, mean_after
 from wholestakes.fees import caps_with_fee, is_caps_with_fee, least_with_fee

@@ -2,10 +2,9 @@ import unittest
 from fractions import Fraction
 
 from tests.helper import (
-    DRAWN, GROWING, LINE, ONE, T, TRACKS, U, V, Errors, comes_to, drawn, full_lots, large, lots, nested, no_numbers,
-    odd_things, steps, walks,
+    BETTORS, DRAWN, GROWING, LINE, ONE, T, TRACKS, U, V, Errors, comes_to, drawn, first_letter, full_lots, large, lots,
+    nested, no_numbers, nothing, odd_things, steps, walks, wrong_stakes,
 )
-from tests.test_strangers import BETTORS, first_letter, nothing, wrong_stakes
 from wholestakes.errors import BadStake, NoChances, NoCoins, NoLot, NoNumber, NoPlace, TooMany
 from wholestakes.fair import fair, is_fair, mean_after
 from wholestakes.lots import greatest_full, is_full

@@ -108,7 +108,8 @@ class TableTest(unittest.TestCase):
                     changed = [(coins + more, turns, stake) for more in (-1, 1)]
                     changed += [(coins, max(0, turns + more), stake) for more in (-1, 1)]
                     for at, laid in enumerate(stake):
-                        changed += [(coins, turns, stake[:at] + (laid + more,) + stake[at + 1:]) for more in (-1, 1) if laid + more >= 0]
+                        others = [stake[:at] + (other,) + stake[at + 1:] for other in (laid - 1, laid + 1) if other >= 0]
+                        changed += [(coins, turns, told) for told in others]
                     for entry in changed + [None]:
                         told = found[:place] + (entry,) + found[place + 1:]
                         right = slow_table(track, told, fee=fee)

@@ -4,7 +4,7 @@ import importlib
 import inspect
 import unittest
 
-from tests.helper import DRAWN, LINE, T, U, V, error_of, large, odd_things
+from tests.helper import DRAWN, LINE, T, U, V, error_of, large, nothing, odd_things
 from wholestakes import (
     byone, changes, conditions, fair, fees, goals, growing, holding, knowing, likeness, limits, lots, making, plain, plans,
     reading, rows, slopes, stakes, strangers, texts, times, tracks,
@@ -121,11 +121,6 @@ def later_calls(track, place):
     if place in lots.hopeful(track):
         told += [(plain.plain_stake, track, place, 3), (plain.plain_coins, track, place)]
     return told + last_calls(track, place)
-
-
-def nothing(track, place):
-    """A bettor that lays nothing."""
-    return lambda text, coins: (0,) * len(tracks.letters(track, rows.led(track, place, text)))
 
 
 def last_calls(track, place):

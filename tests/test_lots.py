@@ -1,7 +1,7 @@
 import unittest
 
 from tests.helper import (
-    LINE, ONE, T, TRACKS, U, V, Errors, comes_to, drawn, full_lots, large, lots, no_places, odd_things, walks,
+    ONE, T, TRACKS, U, V, Errors, comes_to, drawn, full_lots, large, lots, no_places, odd_things, walks,
 )
 from wholestakes.errors import NoPlace, TooMany
 from wholestakes.lots import greatest_full, hopeful, is_full, least_fulls, ranks, row_to_full

@@ -2,8 +2,8 @@ import random
 import unittest
 
 from tests.helper import (
-    DRAWN, GROWING, LINE, ONE, T, TRACKS, U, V, Errors, behind, chain, drawn, error_of, large, nested, no_numbers,
-    no_places, odd_things, steps, walk, walks,
+    BETTORS, DRAWN, GROWING, LINE, ONE, T, TRACKS, U, V, Errors, behind, chain, drawn, error_of, large, no_numbers,
+    no_places, nothing, odd_things, steps, walk, walks, wrong_stakes,
 )
 from wholestakes.errors import (
     BadLetter, BadStake, Grows, NoCoins, NoNumber, NoPlace, NoRow, NotHopeful, NoTable, TooMany,
@@ -20,36 +20,6 @@ BRANCHING = Track(1, tuple((0, letter, 3, 0) for letter in "abcdefghijklmnopqrst
 TWO = Track(1, ((0, "a", 3, 0), (0, "b", 1, 0)))
 
 
-def nothing(track, place):
-    """A bettor that lays nothing."""
-    return lambda text, coins: (0,) * len(steps(track, walk(track, place, text)[1]))
-
-
-def first_letter(track, place):
-    """A bettor that lays all on the first letter."""
-    return lambda text, coins: (coins,) + (0,) * (len(steps(track, walk(track, place, text)[1])) - 1)
-
-
-def last_letter(track, place):
-    return lambda text, coins: (0,) * (len(steps(track, walk(track, place, text)[1])) - 1) + (coins,)
-
-
-def by_letters(track, place):
-    """A bettor that lays some coins by the letters so far."""
-    def bettor(text, coins):
-        draw = random.Random(text + str(coins))
-        count = len(steps(track, walk(track, place, text)[1]))
-        stake = [0] * count
-        left = draw.randint(0, min(coins, 60))
-        for _ in range(left):
-            stake[draw.randrange(count)] += 1
-        return tuple(stake)
-    return bettor
-
-
-BETTORS = (nothing, first_letter, last_letter, by_letters)
-
-
 def account(track, place, coins, bettor, text):
     """The pairs (coins, place), by own account."""
     found = [(coins, place)]
@@ -59,16 +29,6 @@ def account(track, place, coins, bettor, text):
         place, coins = behind(track, place, coins, stake)[number]
         found.append((coins, place))
     return found
-
-
-def wrong_stakes(coins, count):
-    """What is no stake for so many letters with so many coins."""
-    right = (0,) * count
-    return odd_things() + [
-        list(right), right + (0,), right[1:] if count > 1 else (), (coins + 1,) + right[1:], (-1,) + right[1:],
-        (False,) + right[1:], ("0",) + right[1:], (None,) + right[1:], {at: 0 for at in range(count)}, 0,
-        ((0,),) + right[1:], (nested(36, 0),) + right[1:], (coins,) * count if count > 1 and coins else None,
-    ]
 
 
 class PlayedTest(unittest.TestCase, Errors):
@@ -133,7 +93,8 @@ class WorstTest(unittest.TestCase, Errors):
                     bettor = kind(track, place)
                     for length in range(6):
                         found = worst(track, place, 7, bettor, length)
-                        told = [(account(track, place, 7, bettor, text)[-1][0], text) for text, _, _ in walks(track, place, length)]
+                        texts = [text for text, _, _ in walks(track, place, length)]
+                        told = [(account(track, place, 7, bettor, text)[-1][0], text) for text in texts]
                         self.assertEqual(found, min(told))
                         self.assertIs(type(found), tuple)
 

@@ -1,6 +1,6 @@
 import unittest
 
-from tests.helper import DRAWN, GROWING, LINE, ONE, T, TRACKS, U, V, Errors, drawn, large, odd_things
+from tests.helper import GROWING, ONE, TRACKS, U, Errors, drawn, large, odd_things
 from wholestakes.conditions import by_turns
 from wholestakes.errors import BadText, BadTrack
 from wholestakes.fees import table_with_fee
@@ -41,7 +41,8 @@ class WrittenTest(unittest.TestCase):
         self.assertEqual(table_text((None, None)), "none\nnone\n")
         self.assertEqual(table_text(((10, 0, (7,)), None)), "coins 10 turns 0 lay 7\nnone\n")
         self.assertEqual(table_text(((0, 0, (0, 0, 0)),)), "coins 0 turns 0 lay 0 0 0\n")
-        self.assertEqual(table_text(((10 ** 39, 10 ** 39, (10 ** 39, 0)),)), "coins %s turns %s lay %s 0\n" % (FORTY, FORTY, FORTY))
+        great = table_text(((10 ** 39, 10 ** 39, (10 ** 39, 0)),))
+        self.assertEqual(great, "coins %s turns %s lay %s 0\n" % (FORTY, FORTY, FORTY))
 
     def test_goals(self):
         self.assertEqual(goals_text((5, None, 0, 10 ** 39)), "5 - 0 " + FORTY + "\n")
