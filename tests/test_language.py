@@ -18,6 +18,11 @@ type typing enum Enum Flag Generic Protocol ABC namedtuple NamedTuple TypedDict 
 eval exec compile globals locals vars dir id help exit quit super
 """.split()
 WITH_LISTS = ("any", "all", "sum", "min", "max", "sorted")
+LAZY = ("range", "zip", "enumerate", "reversed")
+VIEWS = ("items", "keys", "values")
+WALKING = ("list", "tuple", "dict", "sorted", "sum", "any", "all", "enumerate", "zip")
+WALKING_ALONE = ("min", "max")
+WALKING_RANGES = ("product", "combinations", "permutations")
 
 
 def trees():
@@ -40,6 +45,33 @@ def bound_names(tree):
 
 def imports_of(tree):
     return [node for node in ast.walk(tree) if isinstance(node, (ast.Import, ast.ImportFrom))]
+
+
+def is_lazy(node):
+    """Whether a part of the code makes what has to be iterated on the spot (L23): a range, a zip, a view."""
+    if not isinstance(node, ast.Call):
+        return False
+    if isinstance(node.func, ast.Name):
+        return node.func.id in LAZY
+    return isinstance(node.func, ast.Attribute) and node.func.attr in VIEWS
+
+
+def walked_by(node):
+    """The parts that are iterated on the spot by this part of the code."""
+    if isinstance(node, (ast.For, ast.comprehension)):
+        return [node.iter]
+    if not isinstance(node, ast.Call) or not isinstance(node.func, ast.Name):
+        return []
+    if node.func.id in WALKING or (node.func.id in WALKING_ALONE and len(node.args) == 1):
+        return node.args[:1]
+    return node.args[:1] if node.func.id in WALKING_RANGES else []
+
+
+def not_walked(tree):
+    """The ranges, zips, views and the like of a file that are kept or passed on, each as its row and its text."""
+    nodes = list(ast.walk(tree))
+    walked = {id(part) for node in nodes for part in walked_by(node)}
+    return [(node.lineno, ast.unparse(node)) for node in nodes if is_lazy(node) and id(node) not in walked]
 
 
 class LanguageTest(unittest.TestCase):
@@ -119,6 +151,22 @@ class LanguageTest(unittest.TestCase):
                     self.assertNotEqual(node.func.attr, "sort", name)
                 if isinstance(node, ast.Call) and isinstance(node.func, ast.Name) and node.func.id in WITH_LISTS:
                     self.assertFalse(any(isinstance(told, ast.GeneratorExp) for told in node.args), name)
+
+    def test_ranges_zips_and_views_are_iterated_on_the_spot(self):
+        for name, tree in trees():
+            self.assertEqual(not_walked(tree), [], name)
+
+    def test_what_is_kept_or_passed_on_is_found(self):
+        for code in (
+            "f(ways, range(3))", "f(zip(a, b))[0]", "f(k=enumerate(a))", "f(reversed(a))", "a = d.items()",
+            "return d.keys()", "[d.values()]", "max(3, range(3))", "for a in zip(b, range(3)): pass", "a.f(range(3))",
+        ):
+            self.assertEqual(len(not_walked(ast.parse(code))), 1, code)
+        for code in (
+            "f(list(range(3)))", "for a in zip(b, c): pass", "[a for a in d.items()]", "max(d.values())",
+            "for a in combinations(range(3), 2): pass", "[a for a in enumerate(d.values())]", "sum(range(3))",
+        ):
+            self.assertEqual(not_walked(ast.parse(code)), [], code)
 
 
 if __name__ == "__main__":

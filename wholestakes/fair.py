@@ -35,7 +35,7 @@ def is_fair_there(moves, lot, thing):
         return False
     return all([
         top * pay <= bottom and (to in lot or top == 0)
-        for (top, bottom), (pay, to) in zip(thing, moves.values())
+        for (top, bottom), (pay, to) in zip(thing, list(moves.values()))
     ])
 
 

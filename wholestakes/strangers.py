@@ -95,7 +95,7 @@ def beaten(track, place, goal, house):
     if goal > MOST_BEATEN:
         raise TooMany(MOST_BEATEN)
     ways, here = surroundings(track, place)
-    coins = growing_coins(ways, range(len(ways)), keep_any)[here]
+    coins = growing_coins(ways, list(range(len(ways))), keep_any)[here]
     levels = levels_to(ways, here, coins, goal)
     text = ""
     found = []
